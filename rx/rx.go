@@ -2,12 +2,20 @@
 package rx
 
 import (
+	"unicode/utf8"
+
 	"bramble/api"
+	"bramble/match"
+	"bramble/rest"
 	"bramble/syntax"
 )
 
 // Rx is a pattern.
-type Rx struct{}
+type Rx struct {
+	// A value, so that an Rx that New did not make is no danger for Differ: it matches nothing.
+	tree    syntax.Node
+	matches func(runes []rune) bool
+}
 
 // Print writes a pattern in its one form (P4, P5).
 func Print(p string) (string, api.Errno, int) {
@@ -19,16 +27,58 @@ func Print(p string) (string, api.Errno, int) {
 }
 
 // New reads a pattern (P6).
-func New(p string) (*Rx, api.Errno, int) { return nil, api.OK, 0 }
+func New(p string) (*Rx, api.Errno, int) {
+	n, e, at := syntax.Read(p)
+	if e != api.OK {
+		return nil, e, at
+	}
+	return &Rx{tree: *n, matches: match.New(n)}, api.OK, 0
+}
 
 // Match tells whether a text matches (P7).
-func (x *Rx) Match(s string) (bool, api.Errno) { return false, api.OK }
+func (x *Rx) Match(s string) (bool, api.Errno) {
+	if e := textError(s); e != api.OK {
+		return false, e
+	}
+	return x.matches([]rune(s)), api.OK
+}
+
+// textError is what is wrong with a text that is handed in.
+func textError(s string) api.Errno {
+	switch {
+	case len(s) > api.MaxText:
+		return api.ErrLong
+	case !utf8.ValidString(s):
+		return api.ErrUTF
+	}
+	return api.OK
+}
 
 // Least tells the least text that matches (P8).
-func (x *Rx) Least(most int) (string, bool, api.Errno) { return "", false, api.OK }
+func (x *Rx) Least(most int) (string, bool, api.Errno) {
+	if !isReach(most) {
+		return "", false, api.ErrReach
+	}
+	s, ok := rest.Least(&x.tree, most)
+	return s, ok, api.OK
+}
+
+// isReach tells whether texts of at most so many runes may be asked for.
+func isReach(most int) bool {
+	return most >= 0 && most <= api.MaxReach
+}
 
 // Groups tells which part of a text each group takes (P9).
 func (x *Rx) Groups(s string) ([]int, api.Errno) { return nil, api.OK }
 
 // Differ tells the least text that one of two patterns matches alone (P10).
-func Differ(a *Rx, b *Rx, most int) (string, bool, api.Errno) { return "", false, api.OK }
+func Differ(a *Rx, b *Rx, most int) (string, bool, api.Errno) {
+	if a == nil || b == nil {
+		return "", false, api.ErrNil
+	}
+	if !isReach(most) {
+		return "", false, api.ErrReach
+	}
+	s, ok := rest.Differ(&a.tree, &b.tree, most)
+	return s, ok, api.OK
+}

@@ -2,6 +2,7 @@ package syntax
 
 import (
 	"slices"
+	"unicode"
 
 	"bramble/api"
 	"bramble/ranges"
@@ -26,8 +27,10 @@ func init() {
 	notSpaces = ranges.Not(spaces)
 }
 
-// classOf is a copy of the class of a letter, or false, if the letter has none.
-func classOf(letter rune) ([]api.Range, bool) {
+// Class is a copy of the class of a letter as the start filled it, or false, if the letter has none.
+//
+// Read leans on classOf instead, so that what a pattern means hangs on its text alone; the two have the same classes.
+func Class(letter rune) ([]api.Range, bool) {
 	switch letter {
 	case 'd':
 		return slices.Clone(digits), true
@@ -41,6 +44,22 @@ func classOf(letter rune) ([]api.Range, bool) {
 		return slices.Clone(notWords), true
 	case 'S':
 		return slices.Clone(notSpaces), true
+	}
+	return nil, false
+}
+
+// classOf is the class of a letter, made anew in its one form, or false, if the letter has none.
+func classOf(letter rune) ([]api.Range, bool) {
+	switch letter {
+	case 'd':
+		return []api.Range{{Low: '0', High: '9'}}, true
+	case 'w':
+		return []api.Range{{Low: '0', High: '9'}, {Low: 'A', High: 'Z'}, {Low: '_', High: '_'}, {Low: 'a', High: 'z'}}, true
+	case 's':
+		return []api.Range{{Low: '\t', High: '\n'}, {Low: '\r', High: '\r'}, {Low: ' ', High: ' '}}, true
+	case 'D', 'W', 'S':
+		others, ok := classOf(unicode.ToLower(letter))
+		return ranges.Not(others), ok
 	}
 	return nil, false
 }
