@@ -1,4 +1,4 @@
-// Package match makes closures of a pattern that tell whether a text matches.
+// Package match makes closures of a pattern that tell whether a text matches and which part of it each group takes.
 package match
 
 import (
@@ -17,26 +17,51 @@ const asked places = 1 << 63
 
 // text is a text while a pattern goes over it.
 type text struct {
-	runes []rune
-	known [][]places // for each part and each place where it begins, where it ends; 0, if it was not asked
+	runes  []rune
+	known  [][]places // for each part and each place where it begins, where it ends; 0, if it was not asked
+	groups []int      // for each group two places, between which stands what it took last
 }
 
-// part goes on from a place of a text to all places behind what a part of a pattern matches.
-type part func(t *text, at int) places
+// part is a part of a pattern.
+type part struct {
+	ends ends
+	take taker
+}
 
-// maker counts the parts, so that each has a number.
+// ends goes on from a place of a text to all places behind what a part of a pattern matches.
+type ends func(t *text, at int) places
+
+// maker counts the parts that remember and the groups, so that each has a number.
 type maker struct {
-	parts int
+	parts  int
+	groups int
 }
 
-// New makes of a pattern a function that tells whether it matches the runes of a text of at most MaxText bytes.
-func New(n *syntax.Node) func(runes []rune) bool {
+// Pattern is a pattern for texts of at most MaxText bytes.
+type Pattern struct {
+	whole  part
+	parts  int // that remember
+	groups int
+}
+
+// New makes closures of a pattern.
+func New(n *syntax.Node) *Pattern {
 	m := &maker{}
 	whole := m.part(n)
-	return func(runes []rune) bool {
-		t := &text{runes: runes, known: table(m.parts, len(runes)+1)}
-		return whole(t, 0)&place(len(runes)) != 0
-	}
+	return &Pattern{whole: whole, parts: m.parts, groups: m.groups}
+}
+
+// Match tells whether the runes of a text match.
+func (p *Pattern) Match(runes []rune) bool {
+	return p.matches(p.text(runes))
+}
+
+func (p *Pattern) text(runes []rune) *text {
+	return &text{runes: runes, known: table(p.parts, len(runes)+1)}
+}
+
+func (p *Pattern) matches(t *text) bool {
+	return p.whole.ends(t, 0).has(len(t.runes))
 }
 
 func table(rows int, columns int) [][]places {
@@ -52,23 +77,37 @@ func place(at int) places {
 	return 1 << at
 }
 
+// has tells whether a place is one of some.
+func (p places) has(at int) bool {
+	return p&place(at) != 0
+}
+
 func (m *maker) part(n *syntax.Node) part {
+	if n.Kind == syntax.Group {
+		return m.group(n.Parts[0])
+	}
 	parts := m.all(n.Parts)
 	switch n.Kind {
-	case syntax.Set:
-		return set(n.Set)
 	case syntax.Row:
-		return m.remember(row(parts))
+		return part{m.remember(row(parts)), takeRow(parts)}
 	case syntax.Or:
-		return m.remember(or(parts))
+		return part{m.remember(or(parts)), takeOr(parts)}
 	case syntax.And:
-		return m.remember(and(parts))
+		return part{m.remember(and(parts)), takeNothing}
 	case syntax.Not:
-		return m.remember(not(parts[0]))
+		return part{m.remember(not(parts[0])), takeNothing}
 	case syntax.Many:
-		return m.remember(many(parts[0], n.Least, n.Most))
+		return part{m.remember(many(parts[0], n.Least, n.Most)), takeMany(parts[0], n.Least, n.Most)}
 	}
-	return parts[0]
+	return part{set(n.Set), takeNothing}
+}
+
+// group gives a group its number ahead of those in it: its parenthesis opens first.
+func (m *maker) group(n *syntax.Node) part {
+	number := m.groups
+	m.groups++
+	inside := m.part(n)
+	return part{inside.ends, takeGroup(inside, number)}
 }
 
 func (m *maker) all(list []*syntax.Node) []part {
@@ -79,14 +118,14 @@ func (m *maker) all(list []*syntax.Node) []part {
 	return out
 }
 
-// remember makes a part that works each place out only once: parts in parts would else be asked the same again and again, ever more often the deeper they stand.
-func (m *maker) remember(p part) part {
+// remember works each place out only once: parts in parts would else be asked the same again and again, ever more often the deeper they stand.
+func (m *maker) remember(e ends) ends {
 	number := m.parts
 	m.parts++
 	return func(t *text, at int) places {
 		known := &t.known[number][at]
 		if *known == 0 {
-			*known = p(t, at) | asked
+			*known = e(t, at) | asked
 		}
 		return *known &^ asked
 	}
@@ -96,12 +135,12 @@ func (m *maker) remember(p part) part {
 func (p part) goOn(t *text, from places) places {
 	var out places
 	for ; from != 0; from &= from - 1 {
-		out |= p(t, bits.TrailingZeros64(uint64(from)))
+		out |= p.ends(t, bits.TrailingZeros64(uint64(from)))
 	}
 	return out
 }
 
-func set(list []api.Range) part {
+func set(list []api.Range) ends {
 	return func(t *text, at int) places {
 		if at < len(t.runes) && ranges.Has(list, int(t.runes[at])) {
 			return place(at + 1)
@@ -110,7 +149,7 @@ func set(list []api.Range) part {
 	}
 }
 
-func row(parts []part) part {
+func row(parts []part) ends {
 	return func(t *text, at int) places {
 		now := place(at)
 		for _, p := range parts {
@@ -120,29 +159,29 @@ func row(parts []part) part {
 	}
 }
 
-func or(parts []part) part {
+func or(parts []part) ends {
 	return func(t *text, at int) places {
 		var out places
 		for _, p := range parts {
-			out |= p(t, at)
+			out |= p.ends(t, at)
 		}
 		return out
 	}
 }
 
-func and(parts []part) part {
+func and(parts []part) ends {
 	return func(t *text, at int) places {
 		out := t.onward(at)
 		for _, p := range parts {
-			out &= p(t, at)
+			out &= p.ends(t, at)
 		}
 		return out
 	}
 }
 
-func not(p part) part {
+func not(p part) ends {
 	return func(t *text, at int) places {
-		return t.onward(at) &^ p(t, at)
+		return t.onward(at) &^ p.ends(t, at)
 	}
 }
 
@@ -151,7 +190,7 @@ func (t *text) onward(at int) places {
 	return place(len(t.runes)+1) - place(at)
 }
 
-func many(p part, least int, most int) part {
+func many(p part, least int, most int) ends {
 	return func(t *text, at int) places {
 		now := place(at)
 		for range least {

@@ -1,6 +1,7 @@
 package rx_test
 
 import (
+	"slices"
 	"strings"
 	"sync"
 	"testing"
@@ -44,6 +45,9 @@ func FuzzNew(f *testing.F) {
 			return
 		}
 		is, es := x.Match(s)
+		if _, e := x.Groups(s); e != api.ErrKind && (e == api.OK) != is {
+			t.Errorf("P9: %q: Groups(%q) tells %d, Match %v", p, s, e, is)
+		}
 		least, ok, _ := x.Least(api.MaxReach)
 		if found, _ := x.Match(least); ok && !found || !ok && least != "" {
 			t.Errorf("P8: %q: Least tells %q, %v", p, least, ok)
@@ -54,6 +58,10 @@ func FuzzNew(f *testing.F) {
 		}
 		if is2, es2 := y.Match(s); is2 != is || es2 != es {
 			t.Errorf("P11: %q and %q at %q: %v, %v", p, one, s, is, is2)
+		}
+		l, eg := x.Groups(s)
+		if l2, eg2 := y.Groups(s); !slices.Equal(l, l2) || eg != eg2 {
+			t.Errorf("P11: %q and %q at %q: Groups = %v, %d, and %v, %d", p, one, s, l, eg, l2, eg2)
 		}
 		if d, ok, _ := rx.Differ(x, y, api.MaxReach); ok {
 			t.Errorf("P11: %q and %q differ by %q", p, one, d)

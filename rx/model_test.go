@@ -10,14 +10,30 @@ import (
 	"bramble/rx"
 )
 
-// model is a pattern and, word by word of the document, what it matches. Its groups are counted in none of this.
+// model is a pattern and, word by word of the document, what it matches and what its groups take.
 type model struct {
-	text string
-	is   func(s []rune) bool
+	text   string
+	is     func(s []rune) bool
+	mixed  bool // whether it has & or ~
+	groups int
+	take   taker
 }
 
 func atomOf(text string, has func(r rune) bool) model {
-	return model{text, func(s []rune) bool { return len(s) == 1 && has(s[0]) }}
+	return model{text: text, is: func(s []rune) bool { return len(s) == 1 && has(s[0]) }, take: takeNothing}
+}
+
+// joined is a model of several parts, but for what it matches and takes.
+func joined(parts []model, between string) model {
+	var texts []string
+	var out model
+	for _, p := range parts {
+		texts = append(texts, p.text)
+		out.mixed = out.mixed || p.mixed
+		out.groups += p.groups
+	}
+	out.text = strings.Join(texts, between)
+	return out
 }
 
 // oneOf has the runes of a list, noneOf all others.
@@ -44,27 +60,31 @@ func manyAtoms() []model {
 }
 
 func orOf(parts []model) model {
-	return model{textOf(parts, "|"), func(s []rune) bool {
+	out := joined(parts, "|")
+	out.is = func(s []rune) bool {
 		return slices.ContainsFunc(parts, func(p model) bool { return p.is(s) })
-	}}
+	}
+	out.take = takeFirst(parts)
+	return out
 }
 
 func andOf(parts []model) model {
-	return model{textOf(parts, "&"), func(s []rune) bool {
+	if len(parts) == 1 {
+		return parts[0]
+	}
+	out := joined(parts, "&")
+	out.is = func(s []rune) bool {
 		return !slices.ContainsFunc(parts, func(p model) bool { return !p.is(s) })
-	}}
+	}
+	out.mixed = true
+	return out
 }
 
 func rowOf(parts []model) model {
-	return model{textOf(parts, ""), func(s []rune) bool { return isRow(parts, s) }}
-}
-
-func textOf(parts []model, between string) string {
-	var out []string
-	for _, p := range parts {
-		out = append(out, p.text)
-	}
-	return strings.Join(out, between)
+	out := joined(parts, "")
+	out.is = func(s []rune) bool { return isRow(parts, s) }
+	out.take = takeRow(parts)
+	return out
 }
 
 func isRow(parts []model, s []rune) bool {
@@ -80,14 +100,18 @@ func isRow(parts []model, s []rune) bool {
 }
 
 func notOf(p model) model {
-	return model{"~" + p.text, func(s []rune) bool { return !p.is(s) }}
+	return model{text: "~" + p.text, is: func(s []rune) bool { return !p.is(s) }, mixed: true, groups: p.groups}
 }
 
 // noEnd is more turns than the texts that are looked at have runes.
 const noEnd = 99
 
 func manyOf(p model, sign string, least int, most int) model {
-	return model{p.text + sign, func(s []rune) bool { return isMany(p, least, most, s) }}
+	out := p
+	out.text = p.text + sign
+	out.is = func(s []rune) bool { return isMany(p, least, most, s) }
+	out.take = takeMany(p, least, most)
+	return out
 }
 
 func isMany(p model, least int, most int, s []rune) bool {
@@ -107,17 +131,22 @@ func isMany(p model, least int, most int, s []rune) bool {
 }
 
 func groupOf(p model) model {
-	return model{"(" + p.text + ")", p.is}
+	out := p
+	out.text = "(" + p.text + ")"
+	out.groups++
+	out.take = takeGroup(p)
+	return out
 }
 
 // chooser makes models by the rules of the grammar.
 type chooser struct {
 	source *rand.Rand
 	atoms  []model
+	plain  bool // whether & and ~ are left out
 }
 
 func newChooser(seed uint64, atoms []model) chooser {
-	return chooser{rand.New(rand.NewPCG(seed, 0)), atoms}
+	return chooser{source: rand.New(rand.NewPCG(seed, 0)), atoms: atoms}
 }
 
 func (c chooser) list(least int, most int, part func(deep int) model, deep int) []model {
@@ -129,11 +158,17 @@ func (c chooser) list(least int, most int, part func(deep int) model, deep int) 
 }
 
 func (c chooser) or(deep int) model  { return orOf(c.list(1, 2, c.and, deep)) }
-func (c chooser) and(deep int) model { return andOf(c.list(1, 2, c.row, deep)) }
 func (c chooser) row(deep int) model { return rowOf(c.list(0, 3, c.not, deep)) }
 
+func (c chooser) and(deep int) model {
+	if c.plain {
+		return c.row(deep)
+	}
+	return andOf(c.list(1, 2, c.row, deep))
+}
+
 func (c chooser) not(deep int) model {
-	if deep > 0 && c.source.IntN(4) == 0 {
+	if !c.plain && deep > 0 && c.source.IntN(4) == 0 {
 		return notOf(c.not(deep - 1))
 	}
 	return c.many(deep)

@@ -14,7 +14,7 @@ import (
 type Rx struct {
 	// A value, so that an Rx that New did not make is no danger for Differ: it matches nothing.
 	tree    syntax.Node
-	matches func(runes []rune) bool
+	pattern *match.Pattern
 }
 
 // Print writes a pattern in its one form (P4, P5).
@@ -32,7 +32,7 @@ func New(p string) (*Rx, api.Errno, int) {
 	if e != api.OK {
 		return nil, e, at
 	}
-	return &Rx{tree: *n, matches: match.New(n)}, api.OK, 0
+	return &Rx{tree: *n, pattern: match.New(n)}, api.OK, 0
 }
 
 // Match tells whether a text matches (P7).
@@ -40,7 +40,7 @@ func (x *Rx) Match(s string) (bool, api.Errno) {
 	if e := textError(s); e != api.OK {
 		return false, e
 	}
-	return x.matches([]rune(s)), api.OK
+	return x.pattern.Match([]rune(s)), api.OK
 }
 
 // textError is what is wrong with a text that is handed in.
@@ -69,7 +69,34 @@ func isReach(most int) bool {
 }
 
 // Groups tells which part of a text each group takes (P9).
-func (x *Rx) Groups(s string) ([]int, api.Errno) { return nil, api.OK }
+func (x *Rx) Groups(s string) ([]int, api.Errno) {
+	if e := textError(s); e != api.OK {
+		return nil, e
+	}
+	if x.tree.Has(syntax.And) || x.tree.Has(syntax.Not) {
+		return nil, api.ErrKind
+	}
+	taken, ok := x.pattern.Groups([]rune(s))
+	if !ok {
+		return nil, api.ErrNone
+	}
+	toBytes(taken, s)
+	return taken, api.OK
+}
+
+// toBytes turns places that are counted in runes into those in bytes; -1 stays.
+func toBytes(places []int, s string) {
+	var begins []int
+	for at := range s {
+		begins = append(begins, at)
+	}
+	begins = append(begins, len(s))
+	for i, at := range places {
+		if at >= 0 {
+			places[i] = begins[at]
+		}
+	}
+}
 
 // Differ tells the least text that one of two patterns matches alone (P10).
 func Differ(a *Rx, b *Rx, most int) (string, bool, api.Errno) {

@@ -1,7 +1,11 @@
 // Package syntax reads patterns into trees and writes trees in their one form.
 package syntax
 
-import "bramble/api"
+import (
+	"slices"
+
+	"bramble/api"
+)
 
 // Kind tells what a part of a pattern is.
 type Kind int
@@ -25,4 +29,12 @@ type Node struct {
 	Set         []api.Range // in its one form
 	Parts       []*Node
 	Least, Most int
+}
+
+// Has tells whether a pattern is, or has in it, a part of a kind.
+func (n *Node) Has(kind Kind) bool {
+	if n.Kind == kind {
+		return true
+	}
+	return slices.ContainsFunc(n.Parts, func(part *Node) bool { return part.Has(kind) })
 }
